@@ -1,0 +1,1 @@
+"""Tallyring: who came by whom, on a ring."""

@@ -1,0 +1,3 @@
+"""Bounds that the program itself holds to."""
+
+FAR = 200

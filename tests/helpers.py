@@ -1,0 +1,186 @@
+"""Slow, plain readings of the document, and samples, for all tests."""
+
+import copy
+import inspect
+import itertools
+import random
+
+FAR_NUMBER = 10 ** 12
+
+
+def table_from(many, tallies):
+    """The table with these tallies of (i, j), i below j; 0 where none is told."""
+    rows = [[0] * many for _ in range(many)]
+    for (i, j), tally in tallies.items():
+        rows[i][j] = tally
+        rows[j][i] = -tally
+    return tuple(tuple(row) for row in rows)
+
+
+def all_tables(many, low, high):
+    pairs = list(itertools.combinations(range(many), 2))
+    for tallies in itertools.product(range(low, high + 1), repeat=len(pairs)):
+        yield table_from(many, dict(zip(pairs, tallies)))
+
+
+def unfit_triples(table):
+    return [
+        (i, j, l)
+        for i, j, l in itertools.combinations(range(len(table)), 3)
+        if table[i][l] - table[i][j] - table[j][l] not in (0, 1)
+    ]
+
+
+def model_book(ride):
+    many = len(ride)
+    pairs = itertools.combinations(range(many), 2)
+    return table_from(many, {(i, j): (ride[i] - ride[j]) // many for i, j in pairs})
+
+
+def first_ride(many):
+    return tuple(range(0, -many, -1))
+
+
+def model_next(ride):
+    many = len(ride)
+    return [
+        (i, j)
+        for i in range(many)
+        for j in range(many)
+        if i != j and (ride[j] - ride[i] - 1) % many == 0
+    ]
+
+
+def model_passed(ride, pair):
+    places = list(ride)
+    places[pair[0]] += 1
+    places[pair[1]] -= 1
+    return tuple(places)
+
+
+def distances(ride, depth):
+    """All books within so many passings of a ride's: {book: (passings, ride)}."""
+    found = {model_book(ride): (0, ride)}
+    edge = [ride]
+    for far in range(1, depth + 1):
+        following = []
+        for at in edge:
+            for pair in model_next(at):
+                beyond = model_passed(at, pair)
+                if model_book(beyond) not in found:
+                    found[model_book(beyond)] = (far, beyond)
+                    following.append(beyond)
+        edge = following
+    return found
+
+
+def model_apart(one, other):
+    return sum(abs(one[i][j] - other[i][j]) for i, j in itertools.combinations(range(len(one)), 2))
+
+
+def all_ways(ride, target, length):
+    """All ways of just so many passings from a ride to a book, each gone through."""
+    if length == 0:
+        return [[]] if model_book(ride) == target else []
+    if model_apart(model_book(ride), target) > length:
+        return []
+    return [
+        [pair] + way
+        for pair in model_next(ride)
+        for way in all_ways(model_passed(ride, pair), target, length - 1)
+    ]
+
+
+def random_ride(source, many, rounds):
+    rests = list(range(many))
+    source.shuffle(rests)
+    return tuple(many * source.randint(-rounds, rounds) + rest for rest in rests)
+
+
+def sample_rides():
+    """Rides of 1 to 12 riders and a few more, near and far."""
+    source = random.Random(5)
+    for many in list(range(1, 13)) + [14]:
+        yield first_ride(many)
+        for rounds in (0, 1, 3, FAR_NUMBER // many):
+            for _ in range(4):
+                yield random_ride(source, many, rounds)
+
+
+def sample_pairs():
+    """Pairs of rides of as many riders, near and far."""
+    rides = list(sample_rides())
+    return [(one, other) for one, other in zip(rides, rides[1:]) if len(one) == len(other)]
+
+
+STRANGE = [
+    None, True, False, 0, 1, -1, 7, FAR_NUMBER, "", "0", "ride", "((0,),)", (), [], [0], (None,), ("",), (True,),
+    (False,), ((),), ([],), [()], [[]], [None], ("ride", (0,)), ((None,),), (("0",),), ((False,),), [[0]], [(0,)],
+    ([0],), (((0,),),), ((((((0,),),),),),), [[[[[[0]]]]]], ((0, 0),), ((0,), (0,)), (0, 0), [0, 0],
+    ((0, 1), None), ((0, 1), (-1,)), ((0, 1), [-1, 0]), ((0, 1), 5), ((0, 1), "-1"), (0, "1"), (0, None), (0, (1,)),
+]
+
+
+def other_kinds(thing):
+    """The thing with one part put into another kind of value, wherever that part stands."""
+    if isinstance(thing, bool) or not isinstance(thing, (int, list, tuple)):
+        return
+    if isinstance(thing, int):
+        yield from (bool(thing), not thing, None, str(thing), [thing], (thing,))
+        return
+    yield list(thing) if isinstance(thing, tuple) else tuple(thing)
+    for at, part in enumerate(thing):
+        for changed in other_kinds(part):
+            parts = list(thing)
+            parts[at] = changed
+            yield type(thing)(parts)
+
+
+def other_lengths(thing):
+    """The thing with a part out or twice, in it or in one of its parts."""
+    if not isinstance(thing, (list, tuple)):
+        return
+    for at, part in enumerate(thing):
+        yield thing[:at] + thing[at + 1:]
+        yield thing[:at] + thing[at:at + 1] + thing[at:]
+        for changed in other_lengths(part):
+            yield thing[:at] + type(thing)([changed]) + thing[at + 1:]
+
+
+def same_kind(one, other):
+    """== that also tells True from 1, and a list from a tuple, wherever they stand."""
+    if type(one) is not type(other):
+        return False
+    if isinstance(one, (list, tuple)):
+        return len(one) == len(other) and all(same_kind(a, b) for a, b in zip(one, other))
+    return one == other
+
+
+def parameter_names(function):
+    return list(inspect.signature(function).parameters)
+
+
+class Asking:
+    """What holds of every function: mixed into test cases."""
+
+    def assertTold(self, expected, told):
+        self.assertTrue(same_kind(expected, told), f"expected {expected!r}, told {told!r}")
+
+    def check_asking(self, function, **arguments):
+        """By places and by names the same is told, twice, nothing handed in is changed."""
+        before = copy.deepcopy(arguments)
+        told = function(**arguments)
+        self.assertTold(told, function(*arguments.values()))
+        self.assertTold(before, arguments)
+        self.assertEqual(list(arguments), parameter_names(function))
+        if isinstance(told, list):
+            self.check_own_list(function, arguments, told)
+
+    def check_own_list(self, function, arguments, told):
+        kept = copy.deepcopy(told)
+        again = function(**arguments)
+        self.assertIsNot(told, again)
+        again.append("changed")
+        self.assertTold(kept, told)
+        told.clear()
+        self.assertTold(kept, function(**arguments))
