@@ -1,7 +1,7 @@
 """The fewest passings from book to book, and the ways of these."""
 
 from tallyring.errors import NotNext, TooFar
-from tallyring.kinds import is_number_tuple
+from tallyring.kinds import is_pair_list
 from tallyring.passing import next_pairs, passed, passed_all
 from tallyring.rules import FAR
 from tallyring.tables import is_book
@@ -61,12 +61,6 @@ def ways_many(one, other):
     for at in range(apart(one, other)):
         ways = ways_on(ways, other)
     return ways[other]
-
-
-def is_pair_list(thing):
-    if not isinstance(thing, list):
-        return False
-    return all([is_number_tuple(pair) and len(pair) == 2 for pair in thing])
 
 
 def shows_way(one, other, thing):

@@ -113,6 +113,60 @@ def sample_pairs():
     return [(one, other) for one, other in zip(rides, rides[1:]) if len(one) == len(other)]
 
 
+def model_handed(ride, rider, many):
+    """The ride behind a hand, passing by passing."""
+    for _ in range(abs(many) if len(ride) > 1 else 0):
+        if many > 0:
+            pair = [(i, j) for i, j in model_next(ride) if i == rider][0]
+        else:
+            pair = [(i, j) for i, j in model_next(ride) if j == rider][0]
+        ride = model_passed(ride, pair)
+    return ride
+
+
+def loose_book(places, around):
+    """The book of riders anywhere on a ring of so many spots, no two at one spot."""
+    many = len(places)
+    pairs = itertools.combinations(range(many), 2)
+    return table_from(many, {(i, j): (places[i] - places[j]) // around for i, j in pairs})
+
+
+def loosely_moved_pairs():
+    """Pairs of books of 1 to 12 riders and a few more, of whom some agree: some riders were moved, near or far."""
+    source = random.Random(9)
+    for many in list(range(1, 13)) + [13]:
+        around = 100 * many
+        for rounds in (0, 1, 4, FAR_NUMBER // 2):
+            for moved in sorted({0, 1, many // 3, many // 2, many - 1}):
+                spots = source.sample(range(around), 2 * many)
+                one = [spot + around * source.randint(-rounds, rounds) for spot in spots[:many]]
+                other = list(one)
+                for rider in source.sample(range(many), min(moved, many)):
+                    other[rider] = spots[many + rider] + around * source.randint(-rounds, rounds)
+                yield loose_book(one, around), loose_book(other, around)
+
+
+def small_pairs():
+    """Pairs (ride, book, passings, ride of that book), near enough to go through all ways."""
+    source = random.Random(8)
+    for many, depth in ((1, 3), (2, 8), (3, 8), (4, 6), (5, 5), (6, 4)):
+        for start in (first_ride(many), random_ride(source, many, 2), random_ride(source, many, FAR_NUMBER)):
+            found = sorted(distances(start, depth).items())
+            for book, (far, ride) in source.sample(found, min(12, len(found))):
+                yield start, book, far, ride
+
+
+def nearer_walk(ride, target, source):
+    """A way of as few as can be from a ride to a book, any, and the rides on it."""
+    way = []
+    rides = [ride]
+    while model_book(rides[-1]) != target:
+        book = model_book(rides[-1])
+        way.append(source.choice([(i, j) for i, j in model_next(rides[-1]) if target[i][j] > book[i][j]]))
+        rides.append(model_passed(rides[-1], way[-1]))
+    return way, rides
+
+
 STRANGE = [
     None, True, False, 0, 1, -1, 7, FAR_NUMBER, "", "0", "ride", "((0,),)", (), [], [0], (None,), ("",), (True,),
     (False,), ((),), ([],), [()], [[]], [None], ("ride", (0,)), ((None,),), (("0",),), ((False,),), [[0]], [(0,)],
@@ -147,6 +201,38 @@ def other_lengths(thing):
             yield thing[:at] + type(thing)([changed]) + thing[at + 1:]
 
 
+def others_by_one(thing):
+    """The thing with one number 1 more or less, or two parts side by side exchanged, wherever these stand."""
+    if isinstance(thing, int) and not isinstance(thing, bool):
+        yield from (thing + 1, thing - 1)
+    if not isinstance(thing, (list, tuple)):
+        return
+    for at, part in enumerate(thing):
+        if at > 0:
+            yield thing[:at - 1] + thing[at:at + 1] + thing[at - 1:at] + thing[at + 1:]
+        for changed in others_by_one(part):
+            yield thing[:at] + type(thing)([changed]) + thing[at + 1:]
+
+
+def one_otherwise(thing):
+    """Things that aren't this one by one thing alone, at any depth."""
+    found = [*other_kinds(thing), *other_lengths(thing), *others_by_one(thing)]
+    return [other for other in found if not same_kind(other, thing)]
+
+
+def is_int(thing):
+    return type(thing) is int
+
+
+def lists_in(thing):
+    """All lists that a told thing is made of."""
+    if isinstance(thing, list):
+        yield thing
+    if isinstance(thing, (list, tuple)):
+        for part in thing:
+            yield from lists_in(part)
+
+
 def same_kind(one, other):
     """== that also tells True from 1, and a list from a tuple, wherever they stand."""
     if type(one) is not type(other):
@@ -173,14 +259,19 @@ class Asking:
         self.assertTold(told, function(*arguments.values()))
         self.assertTold(before, arguments)
         self.assertEqual(list(arguments), parameter_names(function))
-        if isinstance(told, list):
-            self.check_own_list(function, arguments, told)
+        self.check_own_lists(function, arguments, told)
 
-    def check_own_list(self, function, arguments, told):
+    def check_own_lists(self, function, arguments, told):
+        """No two told lists are one, none is one handed in, and changing them changes nothing else."""
         kept = copy.deepcopy(told)
         again = function(**arguments)
-        self.assertIsNot(told, again)
-        again.append("changed")
+        lists = [*lists_in(told), *lists_in(again)]
+        ids = {id(each) for each in lists}
+        self.assertEqual(len(ids), len(lists))
+        self.assertFalse(ids & {id(each) for each in lists_in(tuple(arguments.values()))})
+        for each in list(lists_in(again)):
+            each.append("changed")
         self.assertTold(kept, told)
-        told.clear()
+        for each in list(lists_in(told)):
+            each.clear()
         self.assertTold(kept, function(**arguments))

@@ -6,29 +6,9 @@ from tallyring.fewest import apart, is_between, least_way, needs, shows_way, way
 from tallyring.tables import first_table, is_book
 from tests.helpers import (
     FAR_NUMBER, STRANGE, Asking, all_tables, all_ways, distances, first_ride, model_apart, model_book, model_next,
-    model_passed, other_kinds, other_lengths, random_ride, sample_pairs, sample_rides, table_from,
+    model_passed, nearer_walk, other_kinds, other_lengths, random_ride, sample_pairs, sample_rides, small_pairs,
+    table_from,
 )
-
-
-def small_pairs():
-    """Pairs (ride, book, passings, ride of that book), near enough to go through all ways."""
-    source = random.Random(8)
-    for many, depth in ((1, 3), (2, 8), (3, 8), (4, 6), (5, 5), (6, 4)):
-        for start in (first_ride(many), random_ride(source, many, 2), random_ride(source, many, FAR_NUMBER)):
-            found = sorted(distances(start, depth).items())
-            for book, (far, ride) in source.sample(found, min(12, len(found))):
-                yield start, book, far, ride
-
-
-def nearer_walk(ride, target, source):
-    """A way of as few as can be from a ride to a book, any, and the rides on it."""
-    way = []
-    rides = [ride]
-    while model_book(rides[-1]) != target:
-        book = model_book(rides[-1])
-        way.append(source.choice([(i, j) for i, j in model_next(rides[-1]) if target[i][j] > book[i][j]]))
-        rides.append(model_passed(rides[-1], way[-1]))
-    return way, rides
 
 
 class ApartAndNeeds(unittest.TestCase, Asking):
