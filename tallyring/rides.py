@@ -1,7 +1,7 @@
 """Rides, their books, and how riders stand on the ring."""
 
 from tallyring.kinds import is_number_tuple
-from tallyring.tables import amiss
+from tallyring.tables import amiss, table_by
 
 
 def is_ride(thing):
@@ -11,15 +11,9 @@ def is_ride(thing):
     return len({place % many for place in thing}) == many
 
 
-def tally_by_places(places, one, other):
-    if one > other:
-        return -tally_by_places(places, other, one)
-    return (places[one] - places[other]) // len(places)
-
-
 def book_of(ride):
     many = len(ride)
-    return tuple([tuple([tally_by_places(ride, i, j) for j in range(many)]) for i in range(many)])
+    return table_by(many, lambda i, j: (ride[i] - ride[j]) // many)
 
 
 def stands_nearer(book, one, other):

@@ -22,6 +22,16 @@ def first_table(many):
     return tuple([(0,) * many for rider in range(many)])
 
 
+def table_by(many, tally):
+    """The table of so many riders, the tally of each i with each j above it told by a function."""
+    rows = [[0] * many for rider in range(many)]
+    for i in range(many):
+        for j in range(i + 1, many):
+            rows[i][j] = tally(i, j)
+            rows[j][i] = -rows[i][j]
+    return tuple([tuple(row) for row in rows])
+
+
 def fits(table, low, middle, high):
     return table[low][high] - table[low][middle] - table[middle][high] in (0, 1)
 
