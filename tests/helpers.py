@@ -58,6 +58,15 @@ def model_passed(ride, pair):
     return tuple(places)
 
 
+def walked(source, ride, length):
+    """A row of passings from a ride, and the ride behind it."""
+    row = []
+    for _ in range(length):
+        row.append(source.choice(model_next(ride)))
+        ride = model_passed(ride, row[-1])
+    return row, ride
+
+
 def distances(ride, depth):
     """All books within so many passings of a ride's: {book: (passings, ride)}."""
     found = {model_book(ride): (0, ride)}
@@ -220,6 +229,16 @@ def one_otherwise(thing):
     return [other for other in found if not same_kind(other, thing)]
 
 
+def signs_otherwise(text, signs=" \n-+0159:*by,.x"):
+    """All texts with one sign out, in, or another one."""
+    for at in range(len(text) + 1):
+        for sign in signs:
+            yield text[:at] + sign + text[at:]
+            if at < len(text):
+                yield text[:at] + sign + text[at + 1:]
+        yield text[:at] + text[at + 1:]
+
+
 def is_int(thing):
     return type(thing) is int
 
@@ -240,6 +259,100 @@ def same_kind(one, other):
     if isinstance(one, (list, tuple)):
         return len(one) == len(other) and all(same_kind(a, b) for a, b in zip(one, other))
     return one == other
+
+
+def model_is_word(many, thing):
+    if type(thing) is not tuple or len(thing) != 4:
+        return False
+    i, j, low, high = thing
+    if not (is_int(i) and is_int(j) and i in range(many) and j in range(many) and i != j):
+        return False
+    if not all(end is None or is_int(end) for end in (low, high)):
+        return False
+    return low is None or high is None or not low > high
+
+
+def model_keeps(book, words):
+    for i, j, low, high in words:
+        if low is not None and not book[i][j] >= low or high is not None and not book[i][j] <= high:
+            return False
+    return True
+
+
+def told_by(word, end):
+    """What an end tells, (a, b, number), by the document's table."""
+    i, j, low, high = word
+    if end == "high":
+        return (i, j, high + 1) if i < j else (i, j, high)
+    return (j, i, -low) if i < j else (j, i, 1 - low)
+
+
+def model_shows_ring(words, thing):
+    if type(thing) is not list or len(thing) < 2:
+        return False
+    told = []
+    for part in thing:
+        if type(part) is not tuple or len(part) != 2 or not is_int(part[0]) or type(part[1]) is not str:
+            return False
+        if part[0] not in range(len(words)) or part[1] not in ("low", "high"):
+            return False
+        if words[part[0]][2 if part[1] == "low" else 3] is None:
+            return False
+        told.append(told_by(words[part[0]], part[1]))
+    for at, (a, b, number) in enumerate(told):
+        if told[(at + 1) % len(told)][0] != b:
+            return False
+    return len({a for a, b, number in told}) == len(told) and sum(number for a, b, number in told) <= 0
+
+
+def model_is_book(many, thing):
+    if type(thing) is not tuple or len(thing) != many:
+        return False
+    if not all(type(row) is tuple and len(row) == many and all(is_int(part) for part in row) for row in thing):
+        return False
+    if any(thing[i][j] != -thing[j][i] for i in range(many) for j in range(many)):
+        return False
+    return not unfit_triples(thing)
+
+
+def random_words(source, many, length, size):
+    """Words of any kind, of riders, two at least."""
+    words = []
+    for _ in range(length):
+        i, j = source.sample(range(many), 2)
+        low, high = sorted(source.randint(-size, size) for _ in range(2))
+        words.append((i, j, low if source.random() < 0.6 else None, high if source.random() < 0.6 else None))
+    return words
+
+
+def kept_words(source, book, length, slack):
+    """Words that a book keeps, with so much slack at the most, by chance."""
+    words = []
+    for _ in range(length):
+        i, j = source.sample(range(len(book)), 2)
+        low = book[i][j] - source.randint(0, slack)
+        high = book[i][j] + source.randint(0, slack)
+        words.append((i, j, low if source.random() < 0.7 else None, high if source.random() < 0.7 else None))
+    return words
+
+
+def broken_words(source, words, book):
+    """These words, one of which the book doesn't keep, by little."""
+    words = list(words)
+    at = source.randrange(len(words))
+    i, j = words[at][:2]
+    by = source.randint(1, 2)
+    words[at] = (i, j, book[i][j] + by, None) if source.random() < 0.5 else (i, j, None, book[i][j] - by)
+    return words
+
+
+def near_books(many, rounds):
+    """All books of few riders, of rides within so many rounds of one another."""
+    found = set()
+    for order in itertools.permutations(range(1, many)):
+        for turns in itertools.product(range(-rounds, rounds + 1), repeat=many - 1):
+            found.add(model_book((0,) + tuple(rest + many * turn for rest, turn in zip(order, turns))))
+    return sorted(found)
 
 
 def parameter_names(function):

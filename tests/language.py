@@ -74,6 +74,33 @@ def is_plain(node):
     return isinstance(node, (ast.Constant, ast.Name))
 
 
+def holds_changeable(node):
+    """Whether a list or dict written out holds another one."""
+    parts = [part for part in ast.walk(node) if isinstance(part, (ast.List, ast.Dict))]
+    return len(parts) > 1
+
+
+def is_call_of(node, *names):
+    return called_name(node) in names
+
+
+def is_join(node):
+    is_method = isinstance(node, ast.Call) and isinstance(node.func, ast.Attribute) and node.func.attr == "join"
+    return is_method and isinstance(node.func.value, ast.Constant)
+
+
+def is_text(node):
+    is_string = isinstance(node, ast.Constant) and isinstance(node.value, str)
+    return is_string or isinstance(node, ast.JoinedStr) or is_call_of(node, "str", "repr") or is_join(node)
+
+
+def is_length(node):
+    return is_call_of(node, "len") or isinstance(node, ast.Constant) and type(node.value) is int
+
+
+TOLD_BY = {"__len__": is_length, "__repr__": is_text, "__str__": is_text}
+
+
 def bound_names(tree):
     for node in ast.walk(tree):
         if isinstance(node, ast.Name) and isinstance(node.ctx, ast.Store):
@@ -142,6 +169,8 @@ class File:
             elif isinstance(node, (ast.FunctionDef, ast.ClassDef)):
                 names.append(node.name)
             elif isinstance(node, ast.Assign) and len(node.targets) == 1 and is_plain(node.value):
+                if holds_changeable(node.value):
+                    self.tell("L15", node)
                 names += [node.targets[0].id] if isinstance(node.targets[0], ast.Name) else []
             elif not (at == 0 and isinstance(node, ast.Expr) and isinstance(node.value, ast.Constant)):
                 self.tell("L3", node)
@@ -185,6 +214,18 @@ class File:
             for part in ast.walk(node):
                 if isinstance(part, ast.Return) and part.value is not None:
                     self.tell("L28", part)
+        if node.name in ("__eq__", "__len__", "__repr__", "__str__"):
+            self.check_told_by(node)
+
+    def check_told_by(self, node):
+        is_told = TOLD_BY.get(node.name, lambda value: value is not None)
+        for part in ast.walk(node):
+            if isinstance(part, ast.Return) and not is_told(part.value):
+                self.tell("L28", part)
+            if isinstance(part, (ast.Attribute, ast.Subscript)) and not isinstance(part.ctx, ast.Load):
+                self.tell("L28", part)
+        if not isinstance(node.body[-1], ast.Return) or not isinstance(self.parents[node], ast.ClassDef):
+            self.tell("L28", node)
 
     def check_ClassDef(self, node):
         if node.decorator_list or node.keywords:

@@ -44,6 +44,10 @@ class HowMany(unittest.TestCase, Asking):
         for many in range(1, 15):
             self.assertTold(1, how_many(many, 0))
 
+    def test_none_nearer_than_none(self):
+        for many in range(1, 13):
+            self.assertTold((0, 0), (how_many(many, -1), within(many, -1)))
+
     def test_one_rider_alone_has_one_book(self):
         for apart in (1, 2, 3, 64, 199, 200, 210):
             self.assertTold(0, how_many(1, apart))

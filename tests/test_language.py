@@ -2,7 +2,7 @@ import ast
 import os
 import unittest
 
-from tests.language import PACKAGE, breaches
+from tests.language import METHODS, PACKAGE, breaches
 
 FOLDER = os.path.join(os.path.dirname(os.path.dirname(os.path.abspath(__file__))), PACKAGE)
 
@@ -32,6 +32,8 @@ BROKEN = [
     ("L14", "A = '\u00e9'\n"),
     ("L14", "def f():\n\treturn 5\n"),
     ("L15", "A = 1\nA = 2\n"),
+    ("L15", "A = {'a': [1]}\n"),
+    ("L15", "A = [{}, 1]\n"),
     ("L15", "def f(min):\n    return min\n"),
     ("L15", "from tallyring.tables import amiss\n\n\ndef f(amiss):\n    return amiss\n"),
     ("L17", "# of this type\n"),
@@ -53,6 +55,11 @@ BROKEN = [
     ("L27", "A = '5%'\n"),
     ("L27", "A = '\\x41'\n"),
     ("L28", "class A:\n    def __init__(self):\n        return None\n"),
+    ("L28", "class A:\n    def __len__(self):\n        return self.many\n"),
+    ("L28", "class A:\n    def __repr__(self):\n        return self.name\n"),
+    ("L28", "class A:\n    def __repr__(self):\n        self.many = 5\n        return ''\n"),
+    ("L28", "class A:\n    def __str__(self):\n        if self.many:\n            return ''\n"),
+    ("L28", "def __eq__(self, other):\n    return True\n"),
 ]
 
 SOUND = '''"""A file."""
@@ -70,8 +77,14 @@ class Box:
     def __init__(self, rows):
         self.rows = list(rows)
 
+    def __eq__(self, other):
+        return isinstance(other, Box) and self.rows == other.rows
+
     def __len__(self):
         return len(self.rows)
+
+    def __repr__(self):
+        return f"Box({len(self.rows)} rows)"
 
 
 def told(table, *, many=5):
@@ -159,6 +172,14 @@ class Language(unittest.TestCase):
             if isinstance(node, ast.Attribute) and isinstance(node.ctx, ast.Store)
         }
         self.assertEqual(stored & own_methods(), set())
+
+
+    def test_attributes_that_are_read_are_assigned_or_methods(self):
+        nodes = [node for name, source in sources() for node in ast.walk(ast.parse(source))]
+        attributes = [node for node in nodes if isinstance(node, ast.Attribute)]
+        stored = {node.attr for node in attributes if isinstance(node.ctx, ast.Store)}
+        read = {node.attr for node in attributes if isinstance(node.ctx, ast.Load)}
+        self.assertEqual(read - stored - own_methods() - METHODS, set())
 
 
 class TheReadingItself(unittest.TestCase):

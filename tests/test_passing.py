@@ -5,18 +5,8 @@ from tallyring.errors import NotNext
 from tallyring.passing import next_pairs, passed, passed_all
 from tallyring.tables import first_table
 from tests.helpers import (
-    FAR_NUMBER, Asking, first_ride, model_book, model_next, model_passed, sample_rides, table_from,
+    FAR_NUMBER, Asking, first_ride, model_book, model_next, model_passed, sample_rides, table_from, walked,
 )
-
-
-def walk(ride, steps, seed):
-    """A row of passings from a ride, and the ride behind it."""
-    source = random.Random(seed)
-    row = []
-    for _ in range(steps):
-        row.append(source.choice(model_next(ride)))
-        ride = model_passed(ride, row[-1])
-    return row, ride
 
 
 class NextPairs(unittest.TestCase, Asking):
@@ -102,13 +92,13 @@ class PassedAll(unittest.TestCase, Asking):
     def test_rows_to_200_and_more(self):
         for seed, ride in enumerate(sample_rides()):
             for steps in (1, 3, 40, 200, 230) if len(ride) > 1 else (0,):
-                row, beyond = walk(ride, steps, seed)
+                row, beyond = walked(random.Random(seed), ride, steps)
                 self.assertTold(model_book(beyond), passed_all(model_book(ride), row))
                 self.assertTold(model_book(beyond), passed_all(model_book(ride), tuple(row)))
 
     def test_first_that_cannot_be_is_refused(self):
         for seed, ride in enumerate(sample_rides()):
-            row, beyond = walk(ride, 7 if len(ride) > 1 else 0, seed)
+            row, beyond = walked(random.Random(seed), ride, 7 if len(ride) > 1 else 0)
             wrong = [pair for pair in self.all_pairs(len(ride)) if pair not in model_next(beyond)]
             for first in wrong[:4] + wrong[-4:]:
                 self.check_refused(model_book(ride), row + [first], first)
@@ -131,12 +121,12 @@ class PassedAll(unittest.TestCase, Asking):
     def test_far(self):
         many = 5
         ride = tuple(place + many * FAR_NUMBER * (at % 2) for at, place in enumerate(first_ride(many)))
-        row, beyond = walk(ride, 150, 1)
+        row, beyond = walked(random.Random(1), ride, 150)
         self.assertTold(model_book(beyond), passed_all(model_book(ride), row))
 
     def test_asking(self):
         for seed, ride in enumerate(sample_rides()):
-            row, beyond = walk(ride, 9 if len(ride) > 1 else 0, seed)
+            row, beyond = walked(random.Random(seed), ride, 9 if len(ride) > 1 else 0)
             self.check_asking(passed_all, book=model_book(ride), row=row)
 
     def test_refused_row_stays_as_it_was(self):

@@ -7,94 +7,10 @@ from tallyring.tables import first_table
 from tallyring.wordcheck import shows_kept, shows_ring
 from tallyring.words import first_wrong, is_word, judged, keeps, spans
 from tests.helpers import (
-    FAR_NUMBER, STRANGE, Asking, is_int, model_book, one_otherwise, random_ride, same_kind, sample_rides, table_from,
-    unfit_triples,
+    FAR_NUMBER, STRANGE, Asking, broken_words, is_int, kept_words, model_book, model_is_book, model_is_word,
+    model_keeps, model_shows_ring, near_books, one_otherwise, random_ride, random_words, same_kind, sample_rides,
+    table_from, unfit_triples,
 )
-
-
-def model_is_word(many, thing):
-    if type(thing) is not tuple or len(thing) != 4:
-        return False
-    i, j, low, high = thing
-    if not (is_int(i) and is_int(j) and i in range(many) and j in range(many) and i != j):
-        return False
-    if not all(end is None or is_int(end) for end in (low, high)):
-        return False
-    return low is None or high is None or not low > high
-
-
-def model_keeps(book, words):
-    for i, j, low, high in words:
-        if low is not None and not book[i][j] >= low or high is not None and not book[i][j] <= high:
-            return False
-    return True
-
-
-def told_by(word, end):
-    """What an end tells, (a, b, number), by the document's table."""
-    i, j, low, high = word
-    if end == "high":
-        return (i, j, high + 1) if i < j else (i, j, high)
-    return (j, i, -low) if i < j else (j, i, 1 - low)
-
-
-def model_shows_ring(words, thing):
-    if type(thing) is not list or len(thing) < 2:
-        return False
-    told = []
-    for part in thing:
-        if type(part) is not tuple or len(part) != 2 or not is_int(part[0]) or type(part[1]) is not str:
-            return False
-        if part[0] not in range(len(words)) or part[1] not in ("low", "high"):
-            return False
-        if words[part[0]][2 if part[1] == "low" else 3] is None:
-            return False
-        told.append(told_by(words[part[0]], part[1]))
-    for at, (a, b, number) in enumerate(told):
-        if told[(at + 1) % len(told)][0] != b:
-            return False
-    return len({a for a, b, number in told}) == len(told) and sum(number for a, b, number in told) <= 0
-
-
-def model_is_book(many, thing):
-    if type(thing) is not tuple or len(thing) != many:
-        return False
-    if not all(type(row) is tuple and len(row) == many and all(is_int(part) for part in row) for row in thing):
-        return False
-    if any(thing[i][j] != -thing[j][i] for i in range(many) for j in range(many)):
-        return False
-    return not unfit_triples(thing)
-
-
-def random_words(source, many, length, size):
-    """Words of any kind, of riders, two at least."""
-    words = []
-    for _ in range(length):
-        i, j = source.sample(range(many), 2)
-        low, high = sorted(source.randint(-size, size) for _ in range(2))
-        words.append((i, j, low if source.random() < 0.6 else None, high if source.random() < 0.6 else None))
-    return words
-
-
-def kept_words(source, book, length, slack):
-    """Words that a book keeps, with so much slack at the most, by chance."""
-    words = []
-    for _ in range(length):
-        i, j = source.sample(range(len(book)), 2)
-        low = book[i][j] - source.randint(0, slack)
-        high = book[i][j] + source.randint(0, slack)
-        words.append((i, j, low if source.random() < 0.7 else None, high if source.random() < 0.7 else None))
-    return words
-
-
-def broken_words(source, words, book):
-    """These words, one of which the book doesn't keep, by little."""
-    words = list(words)
-    at = source.randrange(len(words))
-    i, j = words[at][:2]
-    by = source.randint(1, 2)
-    words[at] = (i, j, book[i][j] + by, None) if source.random() < 0.5 else (i, j, None, book[i][j] - by)
-    return words
 
 
 def word_lists():
@@ -283,15 +199,6 @@ class Judged(unittest.TestCase, Asking):
         for many, words in list(word_lists())[::9]:
             self.check_asking(judged, many=many, words=words)
             self.assertTold(judged(many, words), judged(many, tuple(words)))
-
-
-def near_books(many, rounds):
-    """All books of few riders, of rides within so many rounds of one another."""
-    found = set()
-    for order in itertools.permutations(range(1, many)):
-        for turns in itertools.product(range(-rounds, rounds + 1), repeat=many - 1):
-            found.add(model_book((0,) + tuple(rest + many * turn for rest, turn in zip(order, turns))))
-    return sorted(found)
 
 
 class Spans(unittest.TestCase, Asking):
